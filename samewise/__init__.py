@@ -1,0 +1,1 @@
+"""Samewise: expressions kept by classes of sameness."""
