@@ -26,7 +26,6 @@ METHODS = (
     "setdefault split splitlines startswith strip update upper values zfill bit_length".split()
 )
 DUNDERS = "__init__ __eq__ __repr__ __str__ __len__".split()
-# Put together, so that this list doesn't hang on how a word is looked for.
 BANNED = re.compile(
     r"\b(type|typing|typing_extensions|enum|Enum|IntEnum|StrEnum|Flag|IntFlag|Generic|Protocol|ABC|ABCMeta|namedtuple"
     r"|NamedTuple|TypedDict|TYPE_CHECKING|abstractmethod)\b|dataclass|overload|contextmanager"
