@@ -1,4 +1,4 @@
-"""LANGUAGE.md: those of its rules that can be seen in the package's files."""
+"""LANGUAGE.md: a part of its rules, those that are plainly seen in a file; the others are looked after by hand."""
 
 import ast
 import builtins
