@@ -1,7 +1,14 @@
-"""Trees and texts that several tests need."""
+"""Trees, terms and the like that several tests need, and what several tests ask."""
 
 import random
 
+from samewise import errors
+from samewise.bank import Bank
+from samewise.texts import read
+
+REFUSALS = (
+    errors.NoTree, errors.NoRule, errors.NoRow, errors.Full, errors.Apart, errors.TooBig, errors.TooWide,
+)
 WORDS = ("a", "x", "plus", "times", "neg", "bind", "if", "abcdefgh")
 
 
@@ -56,3 +63,76 @@ def random_patterns(count, with_holes=True):
     """The same ones at each call: the seed is written here."""
     source = random.Random(20)
     return [random_pattern(source, 4, with_holes) for _ in range(count)]
+
+
+def banked(*texts, room=400):
+    """A bank with the trees of these writings, put one behind the other."""
+    bank = Bank(room)
+    for text in texts:
+        bank.put(read(text))
+    return bank
+
+
+def edge(a, b, weight=1):
+    return (a, b, weight, ("told",))
+
+
+def random_terms(source, many, words="fgh"):
+    """So many terms, no two alike: some names and numbers first, then knots over whatever stands below."""
+    terms = [("name", "x"), ("name", "y"), ("num", 0), ("num", -4)][:source.randint(1, 4)]
+    while len(terms) < many:
+        arms = tuple(source.randrange(len(terms)) for _ in range(source.choice([1, 1, 2, 2, 3])))
+        term = ("of", source.choice(words), arms)
+        if term not in terms:
+            terms.append(term)
+    return terms[:many]
+
+
+def random_edges(source, terms, count):
+    weights = (1, 1, 2, 3, 7, 10 ** 12)
+    return [
+        edge(source.randrange(len(terms)), source.randrange(len(terms)), source.choice(weights)) for _ in range(count)
+    ]
+
+
+def random_cases(count, most=14, seed=7):
+    """Terms with edges over them, the same ones at each call."""
+    source = random.Random(seed)
+    cases = []
+    for _ in range(count):
+        terms = random_terms(source, source.randint(1, most))
+        cases.append((terms, random_edges(source, terms, source.randint(0, 4))))
+    return cases
+
+
+def slow_leads(terms, edges):
+    """The least sameness straight from its words: a table of pairs that grows until nothing is lacking."""
+    many = range(len(terms))
+    same = {(k, k) for k in many} | {(e[0], e[1]) for e in edges} | {(e[1], e[0]) for e in edges}
+    while True:
+        more = {(a, b) for a in many for b in many if (a, b) not in same and slowly_due(terms, same, a, b)}
+        if not more:
+            return [min(b for b in many if (a, b) in same) for a in many]
+        same |= more
+
+
+def slowly_due(terms, same, a, b):
+    if any((a, c) in same and (c, b) in same for c in range(len(terms))):
+        return True
+    one, other = terms[a], terms[b]
+    if one[0] != "of" or other[0] != "of" or one[1] != other[1] or len(one[2]) != len(other[2]):
+        return False
+    return all(pair in same for pair in zip(one[2], other[2]))
+
+
+class Refusing:
+    """For a TestCase: a refusal is of the wanted class and of no other one of the seven."""
+
+    def refused(self, wanted, call, *given):
+        with self.assertRaises(wanted) as caught:
+            call(*given)
+        self.assertIsInstance(caught.exception, errors.SameError)
+        self.assertIsInstance(caught.exception, ValueError)
+        others = tuple(refusal for refusal in REFUSALS if refusal is not wanted)
+        self.assertNotIsInstance(caught.exception, others)
+        return caught.exception

@@ -12,7 +12,7 @@ STATEMENTS = (
     "Assign AugAssign If While For Return Break Continue Pass Raise Try Expr FunctionDef ClassDef ImportFrom".split()
 )
 EXPRESSIONS = (
-    "Constant List Tuple Dict Set BinOp UnaryOp BoolOp Compare IfExp Call Attribute Subscript Slice Name "
+    "Constant List Tuple Dict BinOp UnaryOp BoolOp Compare IfExp Call Attribute Subscript Slice Name "
     "ListComp JoinedStr FormattedValue Lambda".split()
 )
 OWN_NAMES = (
@@ -25,6 +25,10 @@ METHODS = (
     "items join keys ljust lower lstrip partition pop remove replace reverse rfind rjust rpartition rsplit rstrip "
     "setdefault split splitlines startswith strip update upper values zfill bit_length".split()
 )
+KEYWORDS = {
+    "sorted": ["key", "reverse"], "min": ["key", "default"], "max": ["key", "default"], "sum": ["start"],
+    "enumerate": ["start"], "zip": ["strict"],
+}
 DUNDERS = "__init__ __eq__ __repr__ __str__ __len__".split()
 BANNED = re.compile(
     r"\b(type|typing|typing_extensions|enum|Enum|IntEnum|StrEnum|Flag|IntFlag|Generic|Protocol|ABC|ABCMeta|namedtuple"
@@ -36,7 +40,7 @@ def faults(source, own_methods):
     """The faults of one file's text, each as (rule, row)."""
     found = text_faults(source)
     tree = ast.parse(source)
-    found += top_faults(tree)
+    found += top_faults(tree) + shadow_faults(tree)
     for node in ast.walk(tree):
         found += [(rule, node.lineno) for rule in node_faults(node, own_methods)]
     return found
@@ -73,6 +77,21 @@ def top_faults(tree):
         if len(set(bound)) < len(bound):
             found.append(("L15", node.lineno))
             bound = []
+    return found
+
+
+def shadow_faults(tree):
+    """Parameters and locals that are called like a class or an import of the file."""
+    taken = [node.name for node in tree.body if isinstance(node, ast.ClassDef)]
+    for node in tree.body:
+        if isinstance(node, ast.ImportFrom):
+            taken += [alias.name for alias in node.names]
+    found = []
+    for node in ast.walk(tree):
+        if isinstance(node, ast.arg) and node.arg in taken:
+            found.append(("L15", node.lineno))
+        if isinstance(node, ast.Name) and isinstance(node.ctx, ast.Store) and node.id in taken:
+            found.append(("L15", node.lineno))
     return found
 
 
@@ -123,11 +142,16 @@ def bad_attribute(node, own_methods):
 
 def bad_call(node, own_methods):
     called = node.func
+    if isinstance(called, ast.Name):
+        # Sets are never needed here, so they are not made at all (L24).
+        allowed = KEYWORDS.get(called.id, []) if called.id in OWN_NAMES else None
+        wrong = allowed is not None and any(keyword.arg not in allowed for keyword in node.keywords)
+        return wrong or called.id in ("set", "frozenset")
     return isinstance(called, ast.Attribute) and called.attr not in METHODS + own_methods + ["__init__"]
 
 
 def bad_constant(node, own_methods):
-    return isinstance(node.value, (float, bytes, complex)) or node.value is ...
+    return (isinstance(node.value, str) and "%" in node.value) or isinstance(node.value, (float, bytes, complex)) or node.value is ...
 
 
 def bad_operation(node, own_methods):
@@ -184,11 +208,18 @@ WRONG = {
     "L10": "# " + "x" * 120 + "\n",
     "L12": "def f(x):\n    return x._inner\n",
     "L14": "# \u00e9\n",
-    "L15": "a = 1\na = 2\n",
+    "L15": "from samewise.trees import parts\ndef f(parts):\n    return parts\n",
     "L17": "# a type\n",
     "L20": "def f(x, y):\n    return x is y\n",
     "L25": "def f(x):\n    return x.isnumeric()\n",
 }
+ALSO_WRONG = (
+    ("L15", "a = 1\na = 2\n"),
+    ("L7", "def f():\n    return {1, 2}\n"),
+    ("L7", "def f(x):\n    return x == 'a % b'\n"),
+    ("L25", "def f(x):\n    return set(x)\n"),
+    ("L25", "def f(x):\n    return int(x, base=3)\n"),
+)
 
 
 def package_sources():
@@ -199,6 +230,26 @@ def methods_of(sources):
     trees = [ast.parse(source) for source in sources.values()]
     classes = [node for tree in trees for node in tree.body if isinstance(node, ast.ClassDef)]
     return [part.name for node in classes for part in node.body if isinstance(part, ast.FunctionDef)]
+
+
+def values_of(sources):
+    """All names that are given to self somewhere."""
+    found = []
+    for source in sources.values():
+        for node in ast.walk(ast.parse(source)):
+            if isinstance(node, ast.Attribute) and isinstance(node.ctx, ast.Store):
+                found.append(node.attr)
+    return found
+
+
+def defined_in(source):
+    found = []
+    for node in ast.parse(source).body:
+        if isinstance(node, (ast.FunctionDef, ast.ClassDef)):
+            found.append(node.name)
+        if isinstance(node, ast.Assign):
+            found.append(ast.unparse(node.targets[0]))
+    return found
 
 
 def drawn_from(sources):
@@ -230,11 +281,30 @@ class Language(unittest.TestCase):
             self.assertTrue(ready, f"these draw from one another: {sorted(left)}")
             left = {stem: left[stem] for stem in left if stem not in ready}
 
+    def test_each_name_is_drawn_from_the_file_that_defines_it(self):
+        sources = package_sources()
+        for source in sources.values():
+            for node in ast.parse(source).body:
+                if isinstance(node, ast.ImportFrom):
+                    home = defined_in(sources[node.module.partition(".")[2]])
+                    self.assertEqual([alias.name for alias in node.names if alias.name not in home], [])
+
+    def test_no_name_is_a_method_and_a_value(self):
+        sources = package_sources()
+        self.assertEqual(set(methods_of(sources)) & set(values_of(sources)), set())
+
+    def test_no_value_is_called_as_python_calls_its_own(self):
+        values = set(values_of(package_sources()))
+        own = {name for kind in (str, int, list, dict, set, bytes) for name in dir(kind)}
+        self.assertEqual(values & own - {"count", "index", "title", "find", "get", "join", "copy", "add"}, set())
+
     def test_the_init_file_draws_from_nothing(self):
         self.assertEqual(drawn_from(package_sources())["__init__"], [])
 
     def test_each_looked_for_fault_is_seen(self):
         for rule, source in WRONG.items():
+            self.assertIn(rule, [fault[0] for fault in faults(source, [])], source)
+        for rule, source in ALSO_WRONG:
             self.assertIn(rule, [fault[0] for fault in faults(source, [])], source)
 
 
