@@ -74,7 +74,8 @@ def holds(terms, edges, book, a, b):
 
 
 def row_holds(terms, edges, row, above):
-    if not is_place(terms, row[0]) or not is_place(terms, row[1]):
+    # The second end needs no look of its own: it must be where the last step, or the first end, is.
+    if not is_place(terms, row[0]):
         return False
     here = row[0]
     total = 0

@@ -14,6 +14,25 @@ MOST_PARTS = 120
 MOST_DEEP = 30
 
 
+def is_word(text):
+    if text == "" or len(text) > MOST_LETTERS:
+        return False
+    for sign in text:
+        if sign not in LETTERS:
+            return False
+    return True
+
+
+def read_count(text):
+    # The number that is written so without a sign, or None.
+    if text == "" or len(text) > MOST_FIGURES or (text[0] == "0" and text != "0"):
+        return None
+    for sign in text:
+        if sign not in FIGURES:
+            return None
+    return int(text)
+
+
 def shown(tree):
     if tree[0] == "num":
         return str(tree[1])
