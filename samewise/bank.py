@@ -66,7 +66,7 @@ def size_of(terms, k):
 
 
 def size_above(term, sizes):
-    # `sizes` may be a list or a dict, by whatever the numbers of the term are looked up.
+    # `sizes` is a list, or a dict where the numbers of the term are leads; likewise in `tree_above`.
     if term[0] != "of":
         return (1, 1)
     total = 1
@@ -85,14 +85,13 @@ def refuse_great(size):
 
 def tree_of(terms, k):
     refuse_great(size_of(terms, k))
-    return tree_below(terms, k)
+    trees = []
+    for term in terms[:k + 1]:
+        trees.append(tree_above(term, trees))
+    return trees[k]
 
 
-def tree_below(terms, k):
-    term = terms[k]
+def tree_above(term, trees):
     if term[0] != "of":
         return term
-    arms = []
-    for number in term[2]:
-        arms.append(tree_below(terms, number))
-    return ("of", term[1], tuple(arms))
+    return ("of", term[1], tuple([trees[number] for number in term[2]]))
