@@ -136,3 +136,58 @@ class Refusing:
         others = tuple(refusal for refusal in REFUSALS if refusal is not wanted)
         self.assertNotIsInstance(caught.exception, others)
         return caught.exception
+
+
+def slow_members(terms, leads, most=4000):
+    """For each lead the members of its class, as deep as there are classes; None where they are too many to tell."""
+    found = {lead: [] for lead in leads}
+    for _ in range(len(found)):
+        wider = {lead: {} for lead in found}
+        for k, term in enumerate(terms):
+            ways = [term]
+            if term[0] == "of":
+                arms = [()]
+                for number in term[2]:
+                    arms = [row + (tree,) for row in arms for tree in found[leads[number]]]
+                    if len(arms) > most:
+                        return None
+                ways = [("of", term[1], row) for row in arms]
+            for tree in ways:
+                wider[leads[k]][tree] = True
+        found = {lead: list(wider[lead]) for lead in wider}
+        if sum(len(row) for row in found.values()) > most:
+            return None
+    return found
+
+
+def own_cost(tree, costs):
+    return costs.get({"num": "#", "name": "@"}.get(tree[0], tree[1]), 1)
+
+
+def all_parts(tree):
+    """Every part of a tree, each as often as it stands there."""
+    found = [tree]
+    if tree[0] == "of":
+        for arm in tree[2]:
+            found += all_parts(arm)
+    return found
+
+
+def choice_faults(terms, leads, choice, k):
+    """The clauses of point 37 that a choice for the class of k breaks."""
+    faults = []
+    rows = [lead for lead, _ in choice]
+    below = [[leads[n] for n in terms[j][2]] if terms[j][0] == "of" else [] for _, j in choice]
+    if type(choice) is not list or any(type(row) is not tuple or len(row) != 2 for row in choice):
+        faults.append("form")
+    if any(leads[j] != lead for lead, j in choice):
+        faults.append("k is of another class")
+    if len(set(rows)) < len(rows):
+        faults.append("a lead twice")
+    if any(lead not in rows[:place] for place, arms in enumerate(below) for lead in arms):
+        faults.append("an arm without a row above")
+    if any(not any(lead in arms for arms in below[place + 1:]) for place, lead in enumerate(rows[:-1])):
+        faults.append("a row that nobody needs")
+    if rows[-1] != leads[k]:
+        faults.append("another class at the end")
+    return faults
