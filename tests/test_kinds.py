@@ -4,7 +4,7 @@ import copy
 import itertools
 import unittest
 
-from samples import banked, edge, random_cases
+from samples import banked, random_cases
 from samewise.closed import closed
 from samewise.kinds import Kind, Names, Signs
 
